@@ -1,0 +1,1 @@
+"""Crywalks: cries that nobody counts, told by the greatest sums along walks."""
