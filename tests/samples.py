@@ -60,3 +60,9 @@ def many_persons(many):
 
 def many_ties(many, length=2):
     return [("tie" + "abcdefghijklm"[at], "a", "b", length, ()) for at in range(many)]
+
+
+def no_counts():
+    """Things of many kinds that are no COUNT."""
+    others = [thing for thing in anything() if not isinstance(thing, int) or isinstance(thing, bool) or thing < 0]
+    return others + ["0", "1", b"1", [1], (0,), {1: 1}]

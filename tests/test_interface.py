@@ -3,13 +3,23 @@
 import inspect
 import unittest
 
-from crywalks import webs, webtexts
+from crywalks import beats, counts, knots, walks, webs, webtexts
 
 FUNCTIONS = {
     (webs, "is_name"): "(thing)",
     (webs, "is_count"): "(thing)",
     (webtexts, "web_text"): "(web)",
     (webtexts, "read_web"): "(text)",
+    (beats, "beat"): "(web)",
+    (beats, "set_next"): "(web)",
+    (walks, "spot_at"): "(web, tie, place)",
+    (walks, "turn_along"): "(web, tie, start, goal)",
+    (walks, "walk_read"): "(web, walk)",
+    (walks, "ring_read"): "(web, ring)",
+    (counts, "count_behind"): "(web, spot, beats)",
+    (counts, "cry_of"): "(web, spot, *, nth=1)",
+    (counts, "state_behind"): "(web, spot, beats)",
+    (counts, "counts_behind"): "(web, beats)",
 }
 WEB_METHODS = {
     "__init__": "(self, persons, ties=(), *, rounds=False)",
@@ -30,6 +40,11 @@ WEB_METHODS = {
     "__len__": "(self)",
     "__repr__": "(self)",
 }
+KNOTS_METHODS = {
+    "__init__": "(self, web)",
+    "spots": "(self)",
+    "least": "(self, one, other)",
+}
 
 
 class Interface(unittest.TestCase):
@@ -40,11 +55,13 @@ class Interface(unittest.TestCase):
                 self.assertEqual(function.__module__, module.__name__)
                 self.assertEqual(str(inspect.signature(function)), arguments)
 
-    def test_methods_of_web(self):
-        self.assertEqual(webs.Web.__module__, "crywalks.webs")
-        for name, arguments in WEB_METHODS.items():
-            with self.subTest(name=name):
-                self.assertEqual(str(inspect.signature(vars(webs.Web)[name])), arguments)
+    def test_methods_of_classes(self):
+        for module, name, methods in ((webs, "Web", WEB_METHODS), (knots, "Knots", KNOTS_METHODS)):
+            kind = getattr(module, name)
+            self.assertEqual(kind.__module__, module.__name__)
+            for method, arguments in methods.items():
+                with self.subTest(name=name, method=method):
+                    self.assertEqual(str(inspect.signature(vars(kind)[method])), arguments)
 
 
 if __name__ == "__main__":
