@@ -244,7 +244,8 @@ class NoWalks(unittest.TestCase):
 
     def test_no_whole_tie(self):
         web = triangle()
-        for piece, number in ((("ab", 0, 5), 0), (("ab", 1, 6), 0), (("ab", 5, 0), 0), (("ab", 2, 3), 0)):
+        for piece, number in ((("ab", 0, 5), 0), (("ab", 1, 6), 0), (("ab", 5, 0), 0), (("ab", 2, 3), 0),
+                              (("ab", 1, 5), 0), (("ab", 4, 2), 0)):
             self.assertEqual(walk_read(web, [piece])[2], abs(piece[1] - piece[2]))
             self.assert_none(web, [piece], number, [ring_read])
             self.assert_none(web, [piece, (piece[0], piece[2], piece[1])], number, [ring_read])
