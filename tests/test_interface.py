@@ -3,7 +3,7 @@
 import inspect
 import unittest
 
-from crywalks import beats, counts, knots, walks, webs, webtexts
+from crywalks import beats, counts, far, judge, knots, papers, walks, webs, webtexts
 
 FUNCTIONS = {
     (webs, "is_name"): "(thing)",
@@ -20,6 +20,10 @@ FUNCTIONS = {
     (counts, "cry_of"): "(web, spot, *, nth=1)",
     (counts, "state_behind"): "(web, spot, beats)",
     (counts, "counts_behind"): "(web, beats)",
+    (far, "gone"): "(web, beats)",
+    (papers, "paper_of"): "(web, person, beats)",
+    (judge, "read_paper"): "(web, paper)",
+    (judge, "shown_by"): "(web, person, beats, paper)",
 }
 WEB_METHODS = {
     "__init__": "(self, persons, ties=(), *, rounds=False)",
