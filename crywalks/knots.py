@@ -17,22 +17,31 @@ def stops_on(web, tie, more):
     return sorted(set([0, web.length(tie)] + told + asked))
 
 
+def links_along(web, tie, stops):
+    """Tuples (spot, link): the links from each of these places of a tie to the next one, and back.
+
+    A link is a tuple (spot, length, turn, piece), where it leads, and the piece of a walk that it is.
+    """
+    told = []
+    for low, high in zip(stops, stops[1:]):
+        one = standing_at(web, tie, low)
+        other = standing_at(web, tie, high)
+        turn = turn_along(web, tie, low, high)
+        told.append((one, (other, high - low, turn, (tie, low, high))))
+        told.append((other, (one, high - low, -turn, (tie, high, low))))
+    return told
+
+
 def links_of(web, more):
     """A dict from each knot, and each hearer's spot in more, to the links from it to the nearest others.
 
-    A link is a tuple (spot, length, turn, piece). All hearers between the ends of a link are still, so that
-    whoever turns back there, or stays, has won nothing by it: of least length, and of greatest turn, there are
-    always walks that are links one behind another.
+    All hearers between the ends of a link are still, so that whoever turns back there, or stays, has won nothing
+    by it: of least length, and of greatest turn, there are always walks that are links one behind another.
     """
     links = {spot: [] for spot in knot_spots(web) + more}
     for tie in web.ties():
-        stops = stops_on(web, tie, more)
-        for low, high in zip(stops, stops[1:]):
-            one = standing_at(web, tie, low)
-            other = standing_at(web, tie, high)
-            turn = turn_along(web, tie, low, high)
-            links[one].append((other, high - low, turn, (tie, low, high)))
-            links[other].append((one, high - low, -turn, (tie, high, low)))
+        for spot, link in links_along(web, tie, stops_on(web, tie, more)):
+            links[spot].append(link)
     return links
 
 

@@ -3,7 +3,8 @@
 import inspect
 import unittest
 
-from crywalks import beats, counts, far, judge, knots, papers, walks, webs, webtexts
+from crywalks import (beats, counts, ends, far, fractions, judge, knots, levels, papers, rates, walks, webs,
+                      webtexts)
 
 FUNCTIONS = {
     (webs, "is_name"): "(thing)",
@@ -24,6 +25,20 @@ FUNCTIONS = {
     (papers, "paper_of"): "(web, person, beats)",
     (judge, "read_paper"): "(web, paper)",
     (judge, "shown_by"): "(web, person, beats, paper)",
+    (levels, "levels_or_ring"): "(web, person)",
+    (levels, "are_levels"): "(web, thing)",
+    (ends, "does_end"): "(web, person)",
+    (ends, "altogether"): "(web, spot)",
+    (ends, "last_beat"): "(web, spot)",
+    (fractions, "fraction"): "(upper, lower)",
+    (fractions, "plus"): "(one, other)",
+    (fractions, "minus"): "(one, other)",
+    (fractions, "times"): "(one, other)",
+    (fractions, "is_less"): "(one, other)",
+    (fractions, "is_fraction"): "(thing)",
+    (rates, "rate_of"): "(web, person)",
+    (rates, "do_hold"): "(web, rate, thing)",
+    (rates, "above_of"): "(web, person)",
 }
 WEB_METHODS = {
     "__init__": "(self, persons, ties=(), *, rounds=False)",

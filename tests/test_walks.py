@@ -195,6 +195,24 @@ class Rings(unittest.TestCase):
         self.assertEqual(ring_read(rounds(), [("zx", 1, 0), ("yz", 1, 0), ("xy", 1, 0)]), (3, -3))
 
 
+class ManyPieces(unittest.TestCase):
+    def test_pieces_that_come_twice(self):
+        web = rounds()
+        ring = [("xy", 0, 1), ("yz", 0, 1), ("zx", 0, 1)] * 132 + [("xy", 0, 1), ("xy", 1, 0)] * 2
+        self.assertEqual(len(ring), 400)
+        self.assertEqual(ring_read(web, ring), (400, 396))
+        back_and_forth = [("way", 0, LONGEST), ("way", LONGEST, 0)] * 200
+        self.assertEqual(ring_read(cries(), back_and_forth), (400 * LONGEST, 0))
+        self.assertEqual(walk_read(cries(), back_and_forth), ("cyd", "cyd", 400 * LONGEST, 0))
+        self.assertEqual(walk_read(cries(), [("way", 3, 4), ("way", 4, 3)] * 200), (("way", 3), ("way", 3), 400, 0))
+
+    def test_the_last_of_many(self):
+        for bad in (("way", 0, 0), ("road", 0, 5), None):
+            with self.assertRaises(NoWalk) as caught:
+                ring_read(cries(), ([("way", 0, LONGEST), ("way", LONGEST, 0)] * 200)[:399] + [bad])
+            self.assertEqual(caught.exception.number, 399)
+
+
 class NoWalks(unittest.TestCase):
     def assert_none(self, web, thing, number, doors=(walk_read, ring_read)):
         for door in doors:
