@@ -1,7 +1,7 @@
 """The text of a web, and the web of a text."""
 
 from crywalks.errors import NoText, NoWeb
-from crywalks.webs import LONGEST, Web
+from crywalks.webs import Web
 
 HEADS = ("cries", "rounds")
 
@@ -27,15 +27,16 @@ def web_text(web):
 
 
 def number_in(word):
-    """The number that a word of a web's text is in figures, None where it is none."""
-    # No number of a web is above LONGEST, and Python refuses to read figures by the thousands.
-    if not 1 <= len(word) <= len(str(LONGEST)):
-        return None
-    if not all(["0" <= figure <= "9" for figure in word]):
+    """The number that a word is in figures, None where it is none."""
+    if word == "" or not all(["0" <= figure <= "9" for figure in word]):
         return None
     if word[0] == "0" and word != "0":
         return None
-    return int(word)
+    # One by one, for Python refuses to read figures by the thousands.
+    number = 0
+    for figure in word:
+        number = 10 * number + int(figure)
+    return number
 
 
 def tie_in(words):

@@ -24,8 +24,8 @@ def goes_on(web, states, spots):
     plain.states = dict(states)
     for _ in range(beats_enough(web)):
         plain.beat()
-    # Who is set for ever is set again within as many beats as there are spots, and be it three times over.
-    return any(spot in spots for _ in range(3 * len(spots)) for spot in plain.beat())
+    # A beat that sets nobody is the last one that could have set somebody.
+    return any(spot in spots for spot in plain.beat())
 
 
 def cries_till(web, beats):

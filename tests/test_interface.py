@@ -3,8 +3,8 @@
 import inspect
 import unittest
 
-from crywalks import (beats, counts, ends, far, fractions, judge, knots, levels, papers, rates, walks, webs,
-                      webtexts)
+from crywalks import (beats, counts, deeds, desk, ends, far, fractions, judge, keepers, knots, levels, onecries, papers,
+                      rates, walks, webs, webtexts)
 
 FUNCTIONS = {
     (webs, "is_name"): "(thing)",
@@ -39,6 +39,14 @@ FUNCTIONS = {
     (rates, "rate_of"): "(web, person)",
     (rates, "do_hold"): "(web, rate, thing)",
     (rates, "above_of"): "(web, person)",
+    (deeds, "with_state"): "(web, person, state)",
+    (deeds, "with_tie"): "(web, name, one, other, *, length=None)",
+    (deeds, "without_tie"): "(web, tie)",
+    (deeds, "with_length"): "(web, tie, length)",
+    (deeds, "with_person"): "(web, name, *, state=0)",
+    (deeds, "without_person"): "(web, person)",
+    (onecries, "one_cries"): "(web, person)",
+    (onecries, "ring_then"): "(web, person, beat)",
 }
 WEB_METHODS = {
     "__init__": "(self, persons, ties=(), *, rounds=False)",
@@ -64,6 +72,30 @@ KNOTS_METHODS = {
     "spots": "(self)",
     "least": "(self, one, other)",
 }
+KEEPER_METHODS = {
+    "__init__": "(self, web)",
+    "web": "(self)",
+    "put": "(self, person, state)",
+    "lay": "(self, name, one, other, *, length=None)",
+    "cut": "(self, tie)",
+    "stretch": "(self, tie, length)",
+    "come": "(self, name, *, state=0)",
+    "leave": "(self, person)",
+    "go": "(self, beats=1)",
+    "beats": "(self)",
+    "sum_of": "(self, person)",
+    "log": "(self)",
+    "back": "(self, many=1)",
+    "copied": "(self)",
+    "__eq__": "(self, other)",
+    "__len__": "(self)",
+}
+DESK_METHODS = {
+    "__init__": "(self)",
+    "say": "(self, row)",
+}
+CLASSES = ((webs, "Web", WEB_METHODS), (knots, "Knots", KNOTS_METHODS), (keepers, "Keeper", KEEPER_METHODS),
+           (desk, "Desk", DESK_METHODS))
 
 
 class Interface(unittest.TestCase):
@@ -75,7 +107,7 @@ class Interface(unittest.TestCase):
                 self.assertEqual(str(inspect.signature(function)), arguments)
 
     def test_methods_of_classes(self):
-        for module, name, methods in ((webs, "Web", WEB_METHODS), (knots, "Knots", KNOTS_METHODS)):
+        for module, name, methods in CLASSES:
             kind = getattr(module, name)
             self.assertEqual(kind.__module__, module.__name__)
             for method, arguments in methods.items():

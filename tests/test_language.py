@@ -11,6 +11,9 @@ WORDS_BARRED = ("type typing typing_extensions enum Enum IntEnum StrEnum Flag In
                 " namedtuple NamedTuple TypedDict TYPE_CHECKING abstractmethod").split()
 BUILTINS = ("len range enumerate zip min max sum abs sorted reversed int str bool bytes list tuple dict set frozenset"
             " isinstance ord repr any all divmod iter next super").split()
+METHODS = ("append clear copy count endswith extend find get index insert isalnum isalpha isdigit islower isspace isupper"
+           " items join keys ljust lower lstrip partition pop remove replace reverse rfind rjust rpartition rsplit rstrip"
+           " setdefault split splitlines startswith strip update upper values zfill bit_length").split()
 STATEMENTS_BARRED = (ast.Global, ast.AsyncFunctionDef, ast.AsyncFor, ast.AsyncWith, ast.Import, ast.Div)
 
 
@@ -23,6 +26,69 @@ def nodes(kind):
         for node in ast.walk(ast.parse(file.read_text())):
             if isinstance(node, kind):
                 yield file.name, node
+
+
+def bound_in(tree):
+    """The names that a file binds at its top, but by imports."""
+    names = [part.name for part in tree.body if isinstance(part, (ast.FunctionDef, ast.ClassDef))]
+    return names + [target.id for part in tree.body if isinstance(part, ast.Assign) for target in part.targets]
+
+
+def imports_of(tree):
+    """Tuples (file, name), by its imports."""
+    return [(part.module.split(".")[1], one.name) for part in tree.body if isinstance(part, ast.ImportFrom)
+            for one in part.names]
+
+
+def trees():
+    return {file.stem: ast.parse(file.read_text()) for file in files()}
+
+
+class Names(unittest.TestCase):
+    def test_imported_from_where_they_are_defined(self):
+        told = trees()
+        for file, tree in told.items():
+            for source, name in imports_of(tree):
+                with self.subTest(file=file, name=name):
+                    self.assertIn(name, bound_in(told[source]))
+
+    def test_no_two_files_import_from_each_other(self):
+        ahead = {file: {source for source, name in imports_of(tree)} for file, tree in trees().items()}
+        while ahead:
+            free = [file for file in ahead if not ahead[file]]
+            self.assertTrue(free, ahead)
+            ahead = {file: ahead[file] - set(free) for file in ahead if file not in free}
+
+    def test_bound_once(self):
+        for file, tree in trees().items():
+            names = bound_in(tree) + [name for source, name in imports_of(tree)]
+            self.assertEqual((file, len(names)), (file, len(set(names))))
+
+    def test_no_local_name_of_an_import_or_class(self):
+        for file, tree in trees().items():
+            taken = {name for source, name in imports_of(tree)}
+            taken |= {part.name for part in tree.body if isinstance(part, ast.ClassDef)}
+            for node in ast.walk(tree):
+                name = node.arg if isinstance(node, ast.arg) else None
+                if isinstance(node, ast.Name) and isinstance(node.ctx, ast.Store):
+                    name = node.id
+                with self.subTest(file=file, name=name):
+                    self.assertNotIn(name, taken)
+
+    def test_every_import_is_used(self):
+        for file, tree in trees().items():
+            used = {node.id for node in ast.walk(tree) if isinstance(node, ast.Name)}
+            self.assertEqual((file, {name for source, name in imports_of(tree)} - used), (file, set()))
+
+    def test_methods_and_attributes(self):
+        own = {part.name for _, node in nodes(ast.ClassDef) for part in node.body if isinstance(part, ast.FunctionDef)}
+        stored = {node.attr for _, node in nodes(ast.Attribute) if isinstance(node.ctx, ast.Store)}
+        for file, tree in trees().items():
+            called = [node.func for node in ast.walk(tree) if isinstance(node, ast.Call)]
+            for node in ast.walk(tree):
+                if isinstance(node, ast.Attribute):
+                    with self.subTest(file=file, row=node.lineno, name=node.attr):
+                        self.assertIn(node.attr, own | set(METHODS) if node in called else stored)
 
 
 class Language(unittest.TestCase):
